@@ -1,0 +1,51 @@
+"""The interface: its names, and arguments handed in by their places."""
+
+import inspect
+import unittest
+
+from limbtables import drawings, errors, grounds, tables
+
+FUNCTIONS = {
+    tables: {"is_table": 2, "plain": 2, "noughts": 3, "product": 3, "sum_of": 3, "side_by_side": 3,
+             "one_over_another": 3, "along_corner": 2, "reduced": 2, "rank": 2, "to_nought": 2, "made_by": 2,
+             "left_beside": 2, "back_of": 2, "led_to": 3},
+}
+METHODS = {
+    grounds.Ground: {"number": 2, "plus": 2, "minus": 2, "times": 2, "over": 2, "is_number": 1},
+    drawings.Drawing: {"pieces": 0, "is_well": 1, "is_spring": 1, "turned": 1, "kinds": 0},
+}
+
+
+class Interface(unittest.TestCase):
+    def places(self, thing):
+        kinds = [place.kind for place in inspect.signature(thing).parameters.values()]
+        self.assertTrue(all(kind == inspect.Parameter.POSITIONAL_OR_KEYWORD for kind in kinds))
+        return len(kinds)
+
+    def test_functions(self):
+        for module, names in FUNCTIONS.items():
+            for name, many in names.items():
+                self.assertEqual(self.places(getattr(module, name)), many, name)
+
+    def test_methods(self):
+        for made, names in METHODS.items():
+            for name, many in names.items():
+                self.assertEqual(self.places(getattr(made, name)), many + 1, name)
+
+    def test_objects_are_made_by_place(self):
+        self.assertEqual(grounds.Ground(7).prime, 7)
+        drawing = drawings.Drawing(2, [(0, 1)])
+        self.assertEqual((drawing.many, drawing.arrows), (2, [(0, 1)]))
+
+    def test_bottom_may_be_left_out(self):
+        self.assertEqual(grounds.Ground(7).number(3), grounds.Ground(7).number(3, 1))
+        self.assertEqual(grounds.Ground(0).number(3), (3, 1))
+
+    def test_errors_are_there(self):
+        due = ["LimbError", "NoChange", "NoDrawing", "NoGround", "NoKind", "NoMirror", "NoName", "NoNumber", "NoRoot",
+               "NoRow", "NoStanding", "NoTable", "NoText"]
+        self.assertEqual(sorted(name for name in vars(errors) if not name.startswith("_")), due)
+
+
+if __name__ == "__main__":
+    unittest.main()
