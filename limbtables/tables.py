@@ -142,7 +142,7 @@ def leading_row(rows, place):
 
 
 def swept(ground, rows, wide):
-    """Rows of whole numbers, reduced in their first columns but for the numbers they begin with.
+    """Rows of whole numbers, each beginning further right than the row ahead, in their first columns.
 
     Told is a tuple (rows, places): the row at k begins at places[k]; those behind are noughts
     in these columns. Fractions are kept as whole numbers, each row times its own number, since
@@ -155,8 +155,8 @@ def swept(ground, rows, wide):
         at = leading_row(left, place)
         if at is not None:
             lead = left.pop(at)
-            done = [cleared(ground, row, lead, place) for row in done] + [lead]
             left = [cleared(ground, row, lead, place) for row in left]
+            done.append(lead)
             places.append(place)
     return (done + left, places)
 
@@ -164,6 +164,9 @@ def swept(ground, rows, wide):
 def reduced_rows(ground, rows, wide):
     """Rows of numbers, reduced in their first columns, and the places where they begin."""
     found, places = swept(ground, rows, wide)
+    # From the last one on, since a row that is reduced itself brings no further numbers into those columns.
+    for at, place in reversed(list(enumerate(places))):
+        found[:at] = [cleared(ground, row, found[at], place) for row in found[:at]]
     leads = [row[place] for row, place in zip(found, places)]
     leads.extend([1] * (len(found) - len(places)))
     return ([[ground.number(number, lead) for number in row] for row, lead in zip(found, leads)], places)

@@ -4,6 +4,7 @@ import random
 from fractions import Fraction
 
 from limbtables.grounds import Ground
+from limbtables.standings import Standing
 
 PRIMES = [p for p in range(2, 98) if all(p % k for k in range(2, p))]
 GROUNDS = [Ground(prime) for prime in (0, 2, 3, 7, 97)]
@@ -118,4 +119,48 @@ def many_tables(ground, seed):
                     if chance.random() < 0.6:
                         row[k] = told(ground, 0)
             found.append(thin)
+    return found
+
+
+def added(ground, one, other, times=1):
+    """The one table plus the other, taken so many times."""
+    pairs = zip(values(ground, one), values(ground, other))
+    rows = [[a + times * b for a, b in zip(row, others)] for row, others in pairs]
+    return table_of(ground, one[0], one[1], rows)
+
+
+def sample_tables(ground, chance, drawing, sizes):
+    """A table for each arrow, some of them of low rank."""
+    found = []
+    for tail, head in drawing.arrows:
+        most = chance.randint(0, max(sizes[tail], sizes[head]))
+        found.append(sample_of_rank(ground, chance, sizes[head], sizes[tail], most))
+    return found
+
+
+def standing_of(ground, chance, drawing, most=3):
+    """A standing of this drawing, of sizes from 0 to the most."""
+    sizes = [chance.randint(0, most) for _ in range(drawing.many)]
+    return Standing(ground, drawing, sizes, sample_tables(ground, chance, drawing, sizes))
+
+
+def sample_changes(ground, chance, standing):
+    return [sample_with_back(ground, chance, size) for size in standing.sizes]
+
+
+def wreck(thing):
+    """Changes every list in a thing, the inmost first."""
+    if isinstance(thing, (list, tuple)):
+        for inner in thing:
+            wreck(inner)
+    if isinstance(thing, list):
+        thing[:] = ["wrecked"] * (len(thing) + 1)
+
+
+def lists_in(thing):
+    """All lists in a thing, to the bottom."""
+    found = [thing] if isinstance(thing, list) else []
+    if isinstance(thing, (list, tuple)):
+        for inner in thing:
+            found += lists_in(inner)
     return found

@@ -3,12 +3,15 @@
 import inspect
 import unittest
 
-from limbtables import drawings, errors, grounds, tables
+from limbtables import drawings, errors, forms, grounds, roots, standings, tables
 
 FUNCTIONS = {
     tables: {"is_table": 2, "plain": 2, "noughts": 3, "product": 3, "sum_of": 3, "side_by_side": 3,
              "one_over_another": 3, "along_corner": 2, "reduced": 2, "rank": 2, "to_nought": 2, "made_by": 2,
              "left_beside": 2, "back_of": 2, "led_to": 3},
+    forms: {"two_sided": 3, "worth": 2, "is_good": 1, "low_row": 1},
+    roots: {"mirrored": 3, "roots": 1},
+    standings: {"same": 2, "changed": 2, "side_of": 3, "maps": 2, "count_maps": 2, "count_ties": 2},
 }
 METHODS = {
     grounds.Ground: {"number": 2, "plus": 2, "minus": 2, "times": 2, "over": 2, "is_number": 1},
@@ -36,6 +39,11 @@ class Interface(unittest.TestCase):
         self.assertEqual(grounds.Ground(7).prime, 7)
         drawing = drawings.Drawing(2, [(0, 1)])
         self.assertEqual((drawing.many, drawing.arrows), (2, [(0, 1)]))
+        ground = grounds.Ground(7)
+        standing = standings.Standing(ground, drawing, [1, 2], [(2, 1, [[3], [4]])])
+        self.assertIs(standing.ground, ground)
+        self.assertIs(standing.drawing, drawing)
+        self.assertEqual((standing.sizes, standing.tables), ([1, 2], [(2, 1, [[3], [4]])]))
 
     def test_bottom_may_be_left_out(self):
         self.assertEqual(grounds.Ground(7).number(3), grounds.Ground(7).number(3, 1))

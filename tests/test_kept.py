@@ -1,4 +1,4 @@
-"""What is handed in stays as it was, and what is told is the asker's own [2]."""
+"""Tables and drawings: what is handed in stays as it was, and what is told is the asker's own [2]."""
 
 import copy
 import random
@@ -7,25 +7,7 @@ import unittest
 from limbtables import tables
 from limbtables.drawings import Drawing
 from limbtables.errors import LimbError
-from samples import GROUNDS, empty, sample, sample_of_rank, sample_with_back, unit
-
-
-def wreck(thing):
-    """Changes every list in a thing, the inmost first."""
-    if isinstance(thing, (list, tuple)):
-        for inner in thing:
-            wreck(inner)
-    if isinstance(thing, list):
-        thing[:] = ["wrecked"] * (len(thing) + 1)
-
-
-def lists_in(thing):
-    """All lists in a thing, to the bottom."""
-    found = [thing] if isinstance(thing, list) else []
-    if isinstance(thing, (list, tuple)):
-        for inner in thing:
-            found += lists_in(inner)
-    return found
+from samples import GROUNDS, empty, lists_in, sample, sample_of_rank, sample_with_back, unit, wreck
 
 
 def calls(ground):

@@ -111,6 +111,50 @@ class Language(unittest.TestCase):
                 elif not isinstance(node, ast.Attribute) and not isinstance(getattr(node, "ctx", None), ast.Load):
                     self.assertFalse(hasattr(builtins, word), f"{name} {word}")
 
+    def test_names_drawn_in_are_given_nothing_else(self):
+        for path in files():
+            tree = ast.parse(path.read_text(encoding="utf-8"))
+            taken = {drawn.name for node in tree.body if isinstance(node, ast.ImportFrom) for drawn in node.names}
+            taken |= {node.name for node in tree.body if isinstance(node, ast.ClassDef)}
+            for node in ast.walk(tree):
+                if isinstance(node, ast.arg):
+                    self.assertNotIn(node.arg, taken, path.name)
+                if isinstance(node, ast.Name) and isinstance(node.ctx, ast.Store):
+                    self.assertNotIn(node.id, taken, path.name)
+
+    def test_names_are_drawn_from_where_they_are_defined(self):
+        drawn_from = {}
+        for path in files():
+            tree = ast.parse(path.read_text(encoding="utf-8"))
+            rows = [node for node in tree.body if isinstance(node, ast.ImportFrom)]
+            drawn_from[path.stem] = [node.module.split(".")[1] for node in rows]
+            for node in rows:
+                source = ast.parse((PACKAGE / f"{node.module.split('.')[1]}.py").read_text(encoding="utf-8"))
+                defined = {thing.name for thing in source.body if isinstance(thing, (ast.FunctionDef, ast.ClassDef))}
+                self.assertLessEqual({drawn.name for drawn in node.names}, defined, path.name)
+        while drawn_from:
+            free = [name for name, others in drawn_from.items() if not any(other in drawn_from for other in others)]
+            self.assertTrue(free, f"files that draw from one another: {sorted(drawn_from)}")
+            for name in free:
+                del drawn_from[name]
+
+    def test_no_name_is_a_method_and_a_value(self):
+        methods, given = set(), set()
+        for _, node in nodes():
+            if isinstance(node, ast.ClassDef):
+                methods |= {thing.name for thing in node.body if isinstance(thing, ast.FunctionDef)}
+            if isinstance(node, ast.Attribute) and isinstance(node.ctx, ast.Store):
+                given.add(node.attr)
+        self.assertFalse(methods & given)
+        self.assertEqual(given, {"prime", "many", "arrows", "ground", "drawing", "sizes", "tables"})
+
+    def test_walked_at_once(self):
+        for name, node in nodes():
+            if isinstance(node, (ast.Assign, ast.Return)) and isinstance(node.value, ast.Call):
+                called = node.value.func
+                word = called.id if isinstance(called, ast.Name) else getattr(called, "attr", "")
+                self.assertNotIn(word, ("zip", "enumerate", "reversed", "range", "items", "keys", "values"), name)
+
 
 if __name__ == "__main__":
     unittest.main()
