@@ -221,13 +221,18 @@ def back_of(ground, table):
 
 def led_to(ground, table, column):
     """A column that the table leads to the one handed in; or None."""
+    return all_led_to(ground, table, column)
+
+
+def all_led_to(ground, table, columns):
+    """Columns that the table leads, one by one, to those handed in; or None."""
     high, wide, given = table
-    joined = side_by_side(ground, high, [table, column])
+    joined = side_by_side(ground, high, [table, columns])
     rows, places = reduced_rows(ground, joined[2], wide)
     nought = ground.number(0)
-    if any([row[wide] != nought for row in rows[len(places):]]):
+    if any([number != nought for row in rows[len(places):] for number in row[wide:]]):
         return None
-    found = noughts(ground, wide, 1)
+    found = noughts(ground, wide, columns[1])
     for row, place in zip(rows, places):
-        found[2][place] = [row[wide]]
+        found[2][place] = row[wide:]
     return found

@@ -3,7 +3,7 @@
 import inspect
 import unittest
 
-from limbtables import drawings, errors, forms, grounds, roots, standings, tables
+from limbtables import (alike, apart, drawings, errors, forms, grounds, mirrors, parts, roots, standings, tables)
 
 FUNCTIONS = {
     tables: {"is_table": 2, "plain": 2, "noughts": 3, "product": 3, "sum_of": 3, "side_by_side": 3,
@@ -12,6 +12,10 @@ FUNCTIONS = {
     forms: {"two_sided": 3, "worth": 2, "is_good": 1, "low_row": 1},
     roots: {"mirrored": 3, "roots": 1},
     standings: {"same": 2, "changed": 2, "side_of": 3, "maps": 2, "count_maps": 2, "count_ties": 2},
+    mirrors: {"turned_in": 2, "turned_out": 2, "single": 3, "forth_and_back": 2, "back_and_forth": 2},
+    parts: {"part_of": 3},
+    apart: {"taken_apart": 1, "counts": 1},
+    alike: {"leading": 2, "parting": 2},
 }
 METHODS = {
     grounds.Ground: {"number": 2, "plus": 2, "minus": 2, "times": 2, "over": 2, "is_number": 1},
