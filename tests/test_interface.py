@@ -3,7 +3,8 @@
 import inspect
 import unittest
 
-from limbtables import (alike, apart, drawings, errors, forms, grounds, mirrors, parts, roots, standings, tables)
+from limbtables import (alike, apart, desk, drawings, errors, forms, grounds, mirrors, others, papers, parts, roots,
+                        standings, tables, texts)
 
 FUNCTIONS = {
     tables: {"is_table": 2, "plain": 2, "noughts": 3, "product": 3, "sum_of": 3, "side_by_side": 3,
@@ -16,10 +17,15 @@ FUNCTIONS = {
     parts: {"part_of": 3},
     apart: {"taken_apart": 1, "counts": 1},
     alike: {"leading": 2, "parting": 2},
+    others: {"member": 3, "bars": 1},
+    papers: {"lets_by": 2},
+    texts: {"show_number": 2, "show_table": 2, "show_drawing": 1, "show_standing": 1, "read_number": 2,
+            "read_drawing": 1, "read_standing": 3},
 }
 METHODS = {
     grounds.Ground: {"number": 2, "plus": 2, "minus": 2, "times": 2, "over": 2, "is_number": 1},
     drawings.Drawing: {"pieces": 0, "is_well": 1, "is_spring": 1, "turned": 1, "kinds": 0},
+    desk.Desk: {"say": 1},
 }
 
 
@@ -48,6 +54,7 @@ class Interface(unittest.TestCase):
         self.assertIs(standing.ground, ground)
         self.assertIs(standing.drawing, drawing)
         self.assertEqual((standing.sizes, standing.tables), ([1, 2], [(2, 1, [[3], [4]])]))
+        self.assertEqual(desk.Desk(7, "2: 0>1").say("good"), "yes")
 
     def test_bottom_may_be_left_out(self):
         self.assertEqual(grounds.Ground(7).number(3), grounds.Ground(7).number(3, 1))

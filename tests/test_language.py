@@ -146,7 +146,8 @@ class Language(unittest.TestCase):
             if isinstance(node, ast.Attribute) and isinstance(node.ctx, ast.Store):
                 given.add(node.attr)
         self.assertFalse(methods & given)
-        self.assertEqual(given, {"prime", "many", "arrows", "ground", "drawing", "sizes", "tables"})
+        self.assertEqual(given, {"prime", "many", "arrows", "ground", "drawing", "sizes", "tables", "kept",
+                                 "kept_turned"})
 
     def test_walked_at_once(self):
         for name, node in nodes():
