@@ -42,6 +42,9 @@ def lets_by_apart(standing, parts, changes, backs):
     """Whether the changes lead the standing to plain parts side by side."""
     if not isinstance(parts, list) or not all([is_beside(standing, part) for part in parts]):
         return False
+    # Asked first, so that no table is made of parts that are far too many.
+    if standing.sizes != [sum([part.sizes[k] for part in parts]) for k in range(standing.drawing.many)]:
+        return False
     whole = side_of(standing.ground, standing.drawing, parts)
     return is_led(standing, whole, changes, backs) and all([is_plain(part) for part in parts])
 

@@ -185,6 +185,12 @@ def rank(ground, table):
     return len(swept(ground, table[2], table[1])[1])
 
 
+def less_than_nought(ground, number):
+    """Nought less the number."""
+    # No difference is asked of the ground: the number is in lowest terms already.
+    return (-number[0], number[1]) if ground.prime == 0 else -number % ground.prime
+
+
 def to_nought(ground, table):
     """A table of the columns that the table takes to nought."""
     high, wide, given = table
@@ -192,7 +198,7 @@ def to_nought(ground, table):
     free = [place for place in range(wide) if place not in places]
     found = noughts(ground, wide, len(free))[2]
     for row, place in zip(rows, places):
-        found[place] = [ground.minus(ground.number(0), row[at]) for at in free]
+        found[place] = [less_than_nought(ground, row[at]) for at in free]
     for at, place in enumerate(free):
         found[place][at] = ground.number(1)
     return (wide, len(free), found)

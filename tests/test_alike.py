@@ -46,7 +46,7 @@ class Alike(unittest.TestCase):
 
     def test_led_by_changes(self):
         chance = random.Random(1)
-        for drawing in good_drawings(1, 48):
+        for drawing in good_drawings(1, 32):
             for ground in (Ground(0), Ground(chance.choice([2, 3, 97]))):
                 one = standing_of(ground, chance, drawing)
                 other = changed(one, sample_changes(ground, chance, one))
@@ -57,7 +57,7 @@ class Alike(unittest.TestCase):
     def test_same_sizes(self):
         chance = random.Random(2)
         found = []
-        for drawing in good_drawings(2, 48):
+        for drawing in good_drawings(2, 32):
             for ground in (Ground(0), Ground(chance.choice([2, 3, 97]))):
                 one = standing_of(ground, chance, drawing)
                 other = Standing(ground, drawing, one.sizes, sample_tables(ground, chance, drawing, one.sizes))
@@ -66,7 +66,7 @@ class Alike(unittest.TestCase):
 
     def test_other_sizes(self):
         chance = random.Random(3)
-        for drawing in good_drawings(3, 48):
+        for drawing in good_drawings(3, 32):
             for ground in (Ground(0), Ground(chance.choice([2, 3, 97]))):
                 one, other = standing_of(ground, chance, drawing), standing_of(ground, chance, drawing)
                 if one.sizes != other.sizes:

@@ -187,6 +187,7 @@ class Apart(Case):
                 continue
             self.wrong(standing, (word, parts[1:], changes, backs))
             self.wrong(standing, (word, parts + parts[:1], changes, backs))
+            self.wrong(standing, (word, parts * 2000, changes, backs))
             if beside(ground, drawing, parts[::-1]) != beside(ground, drawing, parts):
                 self.wrong(standing, (word, parts[::-1], changes, backs))
             tables = with_one_number_wrong(ground, chance, parts[-1].tables)
